@@ -155,8 +155,8 @@ class Rows(unittest.TestCase):
         for word in ("go", "call"):
             self.shown((word, "a", "g", ()), word + " a g()")
             self.shown((word, "a", "g", (ONE,)), word + " a g(1)")
-            self.shown((word, "b", "work", (A, ("<", ONE, TWO), ("*", ("+", ONE, A), TWO), THREE)),
-                       word + " b work(a, 1 < 2, (1 + a) * 2, 3)")
+            self.shown((word, "b", "gg", (A, ("<", ONE, TWO), ("*", ("+", ONE, A), TWO), THREE)),
+                       word + " b gg(a, 1 < 2, (1 + a) * 2, 3)")
 
     def test_wait(self):
         self.shown(("wait", "a", "b", None), "wait a b")
