@@ -11,6 +11,7 @@ MOST_IFS = 3
 MOST_DEPTH = 6
 MOST_LETTERS = 8
 MOST_ROOM = 1000
+MOST_FIGURES = 30
 MOST_NUMBER = 10 ** 30 - 1
 
 LETTERS = "abcdefghijklmnopqrstuvwxyz"
@@ -145,14 +146,24 @@ def check_works(thing):
 
 
 def check_starts(works):
-    """Refuse the first go or call that names no work of these, or has not as many expressions as it is handed."""
-    handed = {work[1]: len(work[2]) for work in works}
+    """Refuse the first go or call of these works that doesn't go with them."""
+    handed = handed_counts(works)
     for work in works:
         for start in starts_in(work[4]):
-            if start[2] not in handed:
-                raise Missing(start[2])
-            if len(start[3]) != handed[start[2]]:
-                raise BadTree("a go or call has too many or too few expressions")
+            check_start(start, handed)
+
+
+def handed_counts(works):
+    """Tell how many names each work is handed, by the works' names."""
+    return {work[1]: len(work[2]) for work in works}
+
+
+def check_start(start, handed):
+    """Refuse a go or call that names no work of these, or has not as many expressions as it is handed names."""
+    if start[2] not in handed:
+        raise Missing(start[2])
+    if len(start[3]) != handed[start[2]]:
+        raise BadTree("a go or call has too many or too few expressions")
 
 
 def starts_in(rows):
