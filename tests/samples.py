@@ -89,3 +89,12 @@ FULL = (
     ),
 )
 EMPTY = ("work", "g", (), 0, ())
+
+# Books as texts: works that others start, behind which more may stand, and the beginning of such a book.
+GIVER = "\nwork giver(n) room 0\n give n"
+FAILER = "\nwork failer(n) room 0\n fail n"
+
+
+def main(*rows, names="", room=0):
+    """The text of a work called main with these rows."""
+    return "\n".join([f"work main({names}) room {room}", *rows])
