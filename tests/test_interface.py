@@ -3,7 +3,7 @@
 import inspect
 import unittest
 
-from stealhall import errors, forms, writing
+from stealhall import code, errors, forms, plain, reading, web, writing
 
 ARGUMENTS = [
     (errors.BadText, "(row)"), (errors.BadTurn, "(at)"), (errors.Missing, "(name)"), (errors.Spent, "(steps)"),
@@ -11,8 +11,17 @@ ARGUMENTS = [
     (forms.check_work, "(thing)"), (forms.Book, "(works)"), (forms.Book.names, "(self)"),
     (forms.Book.tree, "(self, name)"),
     (writing.show_expression, "(tree)"), (writing.show_work, "(work, *, depth=0)"),
+    (reading.read_expression, "(text)"), (reading.read_book, "(text)"),
+    (plain.serial, "(book, name, args, *, budget=400)"), (plain.Run.ends, "(self)"), (plain.got, "(result)"),
+    (code.code_of, "(work)"),
+    (web.Web, "(book, name, args, *, budget=400)"), (web.Web.nodes, "(self)"), (web.Web.comes_of, "(self, path, n)"),
+    (web.Web.base, "(self)"), (web.Web.largest, "(self)"), (web.Web.loose, "(self)"),
 ]
-METHODS = [(forms.Book, ["names", "tree", "__len__", "__eq__", "__str__", "__repr__"])]
+METHODS = [
+    (forms.Book, ["names", "tree", "__len__", "__eq__", "__str__", "__repr__"]),
+    (plain.Run, ["ends"]),
+    (web.Web, ["nodes", "comes_of", "base", "largest", "loose", "__len__"]),
+]
 
 
 class Interface(unittest.TestCase):
@@ -26,7 +35,11 @@ class Interface(unittest.TestCase):
                 self.assertIn(name, vars(holder))
 
     def test_values(self):
-        self.assertEqual((forms.MOST_WORKS, forms.MOST_ROWS), (12, 40))
+        self.assertEqual((forms.MOST_WORKS, forms.MOST_ROWS, plain.BUDGET), (12, 40, 400))
+
+    def test_values_of_a_run(self):
+        run = plain.serial(reading.read_book("work f() room 3"), "f", [])
+        self.assertEqual((run.result, run.count, run.most), (("gives", 0), 1, 3))
 
 
 if __name__ == "__main__":

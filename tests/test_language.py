@@ -110,6 +110,19 @@ class Files(unittest.TestCase):
             for alias in node.names:
                 self.assertIn(alias.name, defined, node.module)
 
+    def test_no_two_files_import_from_each_other(self):
+        imports = {file[:-3]: {node.module.split(".")[1] for node in tree.body if isinstance(node, ast.ImportFrom)}
+                   for file, _, tree in parsed()}
+        while imports:
+            free = [file for file in imports if not imports[file]]
+            self.assertTrue(free, f"these import in a ring: {sorted(imports)}")
+            imports = {file: wanted - set(free) for file, wanted in imports.items() if file not in free}
+
+    def test_no_call_at_module_level(self):
+        for file, _, tree in parsed():
+            for node in [part for part in tree.body if isinstance(part, (ast.Assign, ast.AnnAssign))]:
+                self.assertFalse([part for part in ast.walk(node) if isinstance(part, ast.Call)], (file, node.lineno))
+
     def test_words(self):
         for file, text, _ in parsed():
             self.assertIsNone(BARRED_WORDS.search(text), file)
@@ -180,6 +193,18 @@ class Expressions(unittest.TestCase):
                 for sign, right in zip(node.ops, node.comparators):
                     if isinstance(sign, (ast.Is, ast.IsNot)):
                         self.assertIn(ast.unparse(right), ("None", "True", "False"), place)
+
+    def test_what_is_iterated_at_once_is_not_kept(self):
+        for place, node in nodes():
+            if isinstance(node, (ast.Assign, ast.Return)) and isinstance(node.value, ast.Call):
+                told = ast.unparse(node.value.func)
+                self.assertNotIn(told, ("zip", "enumerate", "reversed", "range"), place)
+                self.assertFalse(told.endswith((".items", ".keys", ".values")), place)
+
+    def test_no_sort_of_a_list_in_its_place(self):
+        for place, node in nodes():
+            if isinstance(node, ast.Attribute):
+                self.assertNotEqual(node.attr, "sort", place)
 
     def test_any_all_and_their_like_take_lists(self):
         for place, node in nodes():
