@@ -2,7 +2,7 @@
 
 from stealhall.errors import BadArgs, Broken, Spent
 from stealhall.forms import MOST_NUMBER, is_whole
-from stealhall.tasks import CHANGE, Frame, Task, do_step, room_of
+from stealhall.tasks import CHANGE, Task, do_step, frame_of_work, room_of
 
 BUDGET = 400
 
@@ -42,7 +42,7 @@ def first_task(book, name, args):
     work = book.tree(name)
     if not are_numbers(args, len(work[2])):
         raise BadArgs("the work is handed other numbers than these")
-    return Task((), Frame(work, args))
+    return Task((), [frame_of_work(work, args)])
 
 
 def are_numbers(thing, many):

@@ -10,6 +10,7 @@ DEEPEST_FRAME = 30
 FRAME = 2
 WAITED = 3
 STARTED = 4
+BEGUN = 5
 CHANGE = 6
 ENDED = 7
 
@@ -20,25 +21,46 @@ class Frame:
     Its number counts the frames of its task by their beginnings.
     """
 
-    def __init__(self, work, handed, *, depth=1, number=0):
-        self.code = code_of(work)
-        self.room = work[3]
-        self.worths = dict(zip(work[2], handed))
+    def __init__(self, code, room, worths, *, depth, number, place=0):
+        self.code = code
+        self.room = room
+        self.worths = worths
         self.depth = depth
         self.number = number
-        self.place = 0
+        self.place = place
 
 
 class Task:
     """What runs by itself: the frames that live, the last of them running, and the result once it has ended."""
 
-    def __init__(self, path, frame):
+    def __init__(self, path, frames):
         self.path = path
-        self.frames = [frame]
-        self.frames_begun = 1
+        self.frames = frames
+        self.frames_begun = len(frames)
         self.goes = 0
         self.steps = 0
         self.result = None
+
+
+def frame_of_work(work, handed, *, depth=1, number=0):
+    """Tell the frame of a work that is handed these things, at its beginning."""
+    return Frame(code_of(work), work[3], dict(zip(work[2], handed)), depth=depth, number=number)
+
+
+def frame_twin(frame):
+    """Tell a frame that stands as this one does and has nothing in common with it that changes."""
+    worths = dict(frame.worths)
+    return Frame(frame.code, frame.room, worths, depth=frame.depth, number=frame.number, place=frame.place)
+
+
+def task_twin(task):
+    """Tell a task that stands as this one does and has nothing in common with it that changes."""
+    other = Task(task.path, [frame_twin(frame) for frame in task.frames])
+    other.frames_begun = task.frames_begun
+    other.goes = task.goes
+    other.steps = task.steps
+    other.result = task.result
+    return other
 
 
 def room_of(task):
@@ -59,6 +81,18 @@ def waited_path(task):
         return None
     worth = task.frames[-1].worths.get(row[2])
     return worth[1] if is_future(worth) else None
+
+
+def wanted_room(task, book):
+    """Tell the room of the frame that the next row begins, None where it begins none, also as it fails."""
+    row = next_row(task)
+    if row[0] not in ("go", "call"):
+        return None
+    try:
+        handed_on(task.frames[-1], row)
+    except Broken:
+        return None
+    return book.tree(row[2])[3]
 
 
 def do_step(task, book, results):
@@ -114,7 +148,7 @@ def start_task(task, row, book):
     """Do a go; tell the task that it starts."""
     frame = task.frames[-1]
     path = (*task.path, task.goes)
-    started = Task(path, begun_frame(frame, row, book))
+    started = Task(path, [begun_frame(frame, row, book)])
     task.goes += 1
     name_and_move(frame, row[1], ("future", path))
     return started
@@ -129,10 +163,16 @@ def call_work(task, row, book):
 
 def begun_frame(frame, row, book, *, number=0):
     """Tell the frame that a go or call of another frame begins."""
+    handed = handed_on(frame, row)
+    return frame_of_work(book.tree(row[2]), handed, depth=frame.depth + 1, number=number)
+
+
+def handed_on(frame, row):
+    """Tell what a go or call of a frame hands on; all that can fail of it is looked at here."""
     handed = [reckon(tree, frame.worths) for tree in row[3]]
     if frame.depth >= DEEPEST_FRAME:
         raise Broken(TOO_DEEP)
-    return Frame(book.tree(row[2]), handed, depth=frame.depth + 1, number=number)
+    return handed
 
 
 def give(task, worth):

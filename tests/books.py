@@ -101,3 +101,61 @@ class Writer:
         if self.chance.random() < 0.02:
             return ("name", self.chance.choice(NAMES + FUTURES))
         return ("number", self.chance.choice(SMALL if self.chance.random() < 0.95 else LARGE))
+
+
+BUSY_FUTURES = ("p", "q", "r", "s", "t")
+
+
+def busy_works(chance):
+    """One to four works, each handed a number and perhaps a future, with many goes and waits that seldom fail."""
+    heads = [(name, ("n", "p") if at and chance.random() < 0.4 else ("n",), chance.choice((0, 1, 2, 5)))
+             for at, name in enumerate(("f", "g", "h", "k")[:chance.randint(1, 4)])]
+    return [("work", *head, BusyWriter(chance, heads, at).rows()) for at, head in enumerate(heads)]
+
+
+class BusyWriter:
+    """Makes the rows of one work; it ends at once where its n is below 1, and hands on less than n to itself."""
+
+    def __init__(self, chance, heads, at):
+        self.chance = chance
+        self.heads = heads
+        self.at = at
+        self.futures = list(heads[at][1][1:])
+        self.unwaited = []
+
+    def rows(self):
+        rows = [("if", ("<", ("name", "n"), ("number", 1)), (("give", ("number", self.at)),), ())]
+        for _ in range(self.chance.randint(2, 7)):
+            rows.append(self.row())
+        if self.chance.random() < 0.5:
+            rows.extend(("wait", "b", future, ("number", 1)) for future in dict.fromkeys(self.unwaited))
+        return (*rows, self.last_row())
+
+    def row(self):
+        kind = self.chance.choice(("go", "go", "go", "call", "wait", "wait", "put", "if"))
+        if kind in ("go", "call"):
+            return self.start(kind)
+        if kind == "wait" and self.futures:
+            future = self.chance.choice(self.futures)
+            self.unwaited = [other for other in self.unwaited if other != future]
+            return ("wait", "a", future, self.chance.choice((None, ("number", 2))))
+        if kind == "if":
+            return ("if", ("<", ("name", "n"), ("number", 2)), (("put", "a", ("number", 1)),), (self.start("go", False),))
+        return ("put", "a", ("*", ("name", "n"), ("number", self.chance.randint(0, 3))))
+
+    def start(self, word, kept=True):
+        name, names, _ = self.chance.choice(self.heads[self.at:])
+        less = self.chance.choice((1, 1, 1, 2))
+        handed = [("-", ("name", "n"), ("number", less))]
+        if len(names) == 2:
+            handed.append(("name", self.chance.choice(self.futures or ["n"])))
+        future = self.chance.choice(BUSY_FUTURES)
+        if word == "go" and kept:
+            self.futures.append(future)
+            self.unwaited.append(future)
+        return (word, "c" if word == "call" else future, name, tuple(handed))
+
+    def last_row(self):
+        if self.futures and self.chance.random() < 0.15:
+            return ("give", ("name", self.chance.choice(self.futures)))
+        return self.chance.choice((("give", ("name", "n")), ("give", ("name", "n")), ("fail", ("name", "n"))))

@@ -3,7 +3,7 @@
 import inspect
 import unittest
 
-from stealhall import code, errors, forms, plain, reading, web, writing
+from stealhall import chains, code, errors, forms, hall, lanes, plain, reading, web, writing
 
 ARGUMENTS = [
     (errors.BadText, "(row)"), (errors.BadTurn, "(at)"), (errors.Missing, "(name)"), (errors.Spent, "(steps)"),
@@ -16,11 +16,24 @@ ARGUMENTS = [
     (code.code_of, "(work)"),
     (web.Web, "(book, name, args, *, budget=400)"), (web.Web.nodes, "(self)"), (web.Web.comes_of, "(self, path, n)"),
     (web.Web.base, "(self)"), (web.Web.largest, "(self)"), (web.Web.loose, "(self)"),
+    (chains.levels, "(web)"), (chains.longest, "(web)"), (chains.height, "(web)"),
+    (lanes.is_ahead, "(one, other)"), (lanes.in_order, "(paths)"), (lanes.Lane, "()"), (lanes.Lane.lay, "(self, path)"),
+    (lanes.Lane.draw, "(self)"), (lanes.Lane.rob, "(self)"), (lanes.Lane.fit, "(self, path)"),
+    (lanes.Lane.things, "(self)"),
+    (hall.Hall, "(book, name, args, *, workers=2, limit=None, budget=400)"),
+    (hall.Hall.turn, "(self, worker, *, victim=None)"), (hall.Hall.hand, "(self, worker)"),
+    (hall.Hall.lane, "(self, worker)"), (hall.Hall.parked, "(self)"), (hall.Hall.aside, "(self)"),
+    (hall.Hall.taken, "(self)"), (hall.Hall.greatest, "(self)"), (hall.Hall.first, "(self)"),
+    (hall.Hall.done, "(self)"), (hall.Hall.outcome, "(self)"), (hall.Hall.ended, "(self)"), (hall.Hall.log, "(self)"),
+    (hall.Hall.twin, "(self)"), (hall.Hall.at_work, "(self)"), (hall.Hall.weavings, "(self)"),
 ]
 METHODS = [
     (forms.Book, ["names", "tree", "__len__", "__eq__", "__str__", "__repr__"]),
     (plain.Run, ["ends"]),
     (web.Web, ["nodes", "comes_of", "base", "largest", "loose", "__len__"]),
+    (lanes.Lane, ["lay", "draw", "rob", "fit", "things", "__len__", "__eq__", "__repr__"]),
+    (hall.Hall, ["turn", "hand", "lane", "parked", "aside", "taken", "greatest", "first", "done", "outcome", "ended",
+                 "log", "twin", "at_work", "weavings"]),
 ]
 
 
@@ -35,7 +48,7 @@ class Interface(unittest.TestCase):
                 self.assertIn(name, vars(holder))
 
     def test_values(self):
-        self.assertEqual((forms.MOST_WORKS, forms.MOST_ROWS, plain.BUDGET), (12, 40, 400))
+        self.assertEqual((forms.MOST_WORKS, forms.MOST_ROWS, plain.BUDGET, hall.WORKERS), (12, 40, 400, 2))
 
     def test_values_of_a_run(self):
         run = plain.serial(reading.read_book("work f() room 3"), "f", [])
