@@ -53,7 +53,8 @@ class Floor:
         if path is None:
             return self.turn_of_empty_hand(worker, victim)
         waited = self.running.waited(path)
-        if waited is not None and waited in self.living:
+        # Where the row waits for nothing this is None, which is no living task.
+        if waited in self.living:
             self.waits[path] = waited
             self.empty_hand(worker)
             return (worker, "park", path, waited)

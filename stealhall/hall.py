@@ -20,6 +20,7 @@ class Hall:
         if budget is not None:
             walk(first_task(book, name, args), book, budget)
         self.beginning = (book, name, tuple(args))
+        self.workers = workers
         self.running = Running(book, {(): main}, {})
         self.floor = Floor(self.running, workers, limit, room_of(main))
         self.happenings = []
@@ -98,8 +99,7 @@ class Hall:
     def twin(self):
         """Tell a hall that stands as this one does, and from there on has nothing in common with it."""
         book, name, args = self.beginning
-        workers = len(self.floor.hands)
-        other = Hall(book, name, list(args), workers=workers, limit=self.floor.limit, budget=None)
+        other = Hall(book, name, list(args), workers=self.workers, limit=self.floor.limit, budget=None)
         other.running = running_twin(self.running)
         other.floor = floor_twin(self.floor, other.running)
         other.happenings = self.log()

@@ -103,23 +103,27 @@ class Writer:
         return ("number", self.chance.choice(SMALL if self.chance.random() < 0.95 else LARGE))
 
 
-BUSY_FUTURES = ("p", "q", "r", "s", "t")
+BUSY_FUTURES = ("p", "q", "r", "s", "t", "u", "v", "w", "x", "y", "z")
 
 
-def busy_works(chance):
-    """One to four works, each handed a number and perhaps a future, with many goes and waits that seldom fail."""
-    heads = [(name, ("n", "p") if at and chance.random() < 0.4 else ("n",), chance.choice((0, 1, 2, 5)))
+def busy_works(chance, kept=False):
+    """One to four works, each handed a number and perhaps a future, with many goes and waits that seldom fail.
+
+    Where they are kept within, each frame waits for all that it starts, and none for anything else.
+    """
+    heads = [(name, ("n", "p") if at and not kept and chance.random() < 0.4 else ("n",), chance.choice((0, 1, 2, 5)))
              for at, name in enumerate(("f", "g", "h", "k")[:chance.randint(1, 4)])]
-    return [("work", *head, BusyWriter(chance, heads, at).rows()) for at, head in enumerate(heads)]
+    return [("work", *head, BusyWriter(chance, heads, at, kept).rows()) for at, head in enumerate(heads)]
 
 
 class BusyWriter:
     """Makes the rows of one work; it ends at once where its n is below 1, and hands on less than n to itself."""
 
-    def __init__(self, chance, heads, at):
+    def __init__(self, chance, heads, at, kept):
         self.chance = chance
         self.heads = heads
         self.at = at
+        self.kept = kept
         self.futures = list(heads[at][1][1:])
         self.unwaited = []
 
@@ -127,7 +131,7 @@ class BusyWriter:
         rows = [("if", ("<", ("name", "n"), ("number", 1)), (("give", ("number", self.at)),), ())]
         for _ in range(self.chance.randint(2, 7)):
             rows.append(self.row())
-        if self.chance.random() < 0.5:
+        if self.kept or self.chance.random() < 0.5:
             rows.extend(("wait", "b", future, ("number", 1)) for future in dict.fromkeys(self.unwaited))
         return (*rows, self.last_row())
 
@@ -138,24 +142,25 @@ class BusyWriter:
         if kind == "wait" and self.futures:
             future = self.chance.choice(self.futures)
             self.unwaited = [other for other in self.unwaited if other != future]
-            return ("wait", "a", future, self.chance.choice((None, ("number", 2))))
-        if kind == "if":
+            return ("wait", "a", future, self.chance.choice((None, ("number", 2))) if not self.kept else ("number", 2))
+        if kind == "if" and not self.kept:
             return ("if", ("<", ("name", "n"), ("number", 2)), (("put", "a", ("number", 1)),), (self.start("go", False),))
         return ("put", "a", ("*", ("name", "n"), ("number", self.chance.randint(0, 3))))
 
-    def start(self, word, kept=True):
+    def start(self, word, counted=True):
         name, names, _ = self.chance.choice(self.heads[self.at:])
         less = self.chance.choice((1, 1, 1, 2))
         handed = [("-", ("name", "n"), ("number", less))]
         if len(names) == 2:
             handed.append(("name", self.chance.choice(self.futures or ["n"])))
-        future = self.chance.choice(BUSY_FUTURES)
-        if word == "go" and kept:
+        # A name that is given another future would leave the first one unwaited for.
+        future = BUSY_FUTURES[len(self.futures)] if self.kept else self.chance.choice(BUSY_FUTURES[:5])
+        if word == "go" and counted:
             self.futures.append(future)
             self.unwaited.append(future)
         return (word, "c" if word == "call" else future, name, tuple(handed))
 
     def last_row(self):
-        if self.futures and self.chance.random() < 0.15:
+        if self.futures and not self.kept and self.chance.random() < 0.15:
             return ("give", ("name", self.chance.choice(self.futures)))
         return self.chance.choice((("give", ("name", "n")), ("give", ("name", "n")), ("fail", ("name", "n"))))

@@ -1,5 +1,6 @@
 """A hall once more, by the steps of tests/model.py and as the document words it, to hold the package's hall against."""
 
+import copy
 import math
 
 
@@ -94,6 +95,24 @@ class HallModel:
                 return ("steal", self.hands[worker], other)
         return ("rest", None, victim)
 
+    def copied(self):
+        other = copy.copy(self)
+        other.hands, other.lanes = list(self.hands), [list(lane) for lane in self.lanes]
+        other.steps_done, other.log = list(self.steps_done), list(self.log)
+        other.begun, other.parked, other.aside = set(self.begun), set(self.parked), set(self.aside)
+        return other
+
+    def could_happen(self, entry):
+        """The hall behind a turn by which just this entry is told, None where there is no such turn."""
+        many = len(self.hands)
+        for worker in range(many):
+            for victim in [None] + [other for other in range(many) if other != worker]:
+                other = self.copied()
+                # Only what is written alike is just the same: True is no 1, and a list no tuple.
+                if repr(other.turn(worker, victim)) == repr(entry):
+                    return other
+        return None
+
     def state(self):
         """All that a hall tells of itself."""
         ended = sorted((path, self.told.results[path]) for path in self.ended())
@@ -102,3 +121,13 @@ class HallModel:
                 "aside": sorted(self.aside, key=plain_key), "taken": self.taken(), "greatest": self.most,
                 "first": self.first(), "done": self.first() is None, "outcome": dict(ended).get(()), "ended": ended,
                 "log": self.log}
+
+
+def could_be_log(told, workers, limit, log):
+    """Whether a list is the log of a hall, by trying every turn for each entry."""
+    hall = HallModel(told, workers, limit)
+    for entry in log:
+        hall = hall.could_happen(entry)
+        if hall is None:
+            return False
+    return True

@@ -3,7 +3,8 @@
 import inspect
 import unittest
 
-from stealhall import chains, code, errors, forms, hall, lanes, plain, reading, web, writing
+from stealhall import (bounds, chains, code, desk, errors, forms, hall, lanes, looker, plain, reading, weaving, web,
+                       writing)
 
 ARGUMENTS = [
     (errors.BadText, "(row)"), (errors.BadTurn, "(at)"), (errors.Missing, "(name)"), (errors.Spent, "(steps)"),
@@ -26,6 +27,12 @@ ARGUMENTS = [
     (hall.Hall.taken, "(self)"), (hall.Hall.greatest, "(self)"), (hall.Hall.first, "(self)"),
     (hall.Hall.done, "(self)"), (hall.Hall.outcome, "(self)"), (hall.Hall.ended, "(self)"), (hall.Hall.log, "(self)"),
     (hall.Hall.twin, "(self)"), (hall.Hall.at_work, "(self)"), (hall.Hall.weavings, "(self)"),
+    (weaving.weave, "(hall, turns, *, rounds=0, watch=None)"), (weaving.run_out, "(hall)"),
+    (bounds.most_steals, "(workers, *, height=0)"), (bounds.most_room, "(web, workers, *, limit=None)"),
+    (bounds.most_rounds, "(web, workers, *, limit=None)"),
+    (looker.log_holds, "(web, workers, limit, log)"), (looker.chain_holds, "(web, chain)"),
+    (looker.levels_hold, "(web, numbers)"), (looker.loose_holds, "(web, end)"),
+    (desk.Desk, "()"), (desk.Desk.say, "(self, row)"),
 ]
 METHODS = [
     (forms.Book, ["names", "tree", "__len__", "__eq__", "__str__", "__repr__"]),
@@ -34,6 +41,7 @@ METHODS = [
     (lanes.Lane, ["lay", "draw", "rob", "fit", "things", "__len__", "__eq__", "__repr__"]),
     (hall.Hall, ["turn", "hand", "lane", "parked", "aside", "taken", "greatest", "first", "done", "outcome", "ended",
                  "log", "twin", "at_work", "weavings"]),
+    (desk.Desk, ["say"]),
 ]
 
 

@@ -35,6 +35,7 @@ BARRED_STATEMENTS = (ast.Global, ast.AsyncFunctionDef, ast.AsyncFor, ast.AsyncWi
 DUNDERS = set("__init__ __eq__ __repr__ __str__ __len__ __enter__ __exit__ __call__ __iter__".split())
 ATTRIBUTES = set("count index title find get join lower upper split strip copy add".split())
 FUNCTIONS = (ast.FunctionDef, ast.Lambda)
+OWN_ERRORS = set("StealError BadText BadTree BadArgs BadHall BadTurn NoRow Missing Bare Spent Broken".split())
 
 
 def bound_names(tree):
@@ -170,6 +171,37 @@ class Names(unittest.TestCase):
         for node in top:
             names = [part.name for part in node.body if isinstance(part, ast.FunctionDef)]
             self.assertEqual(len(names), len(set(names)), node.name)
+
+
+class Statements(unittest.TestCase):
+    def test_what_stands_in_a_finally(self):
+        for place, node in nodes():
+            for row in getattr(node, "finalbody", []):
+                parts = [part for part in ast.walk(row) if isinstance(part, (ast.stmt, ast.Call))]
+                for part in parts:
+                    if isinstance(part, ast.Call):
+                        self.assertIn(getattr(part.func, "attr", None), ("append", "clear"), place)
+                    else:
+                        self.assertIsInstance(part, (ast.Pass, ast.Assign, ast.AugAssign, ast.Expr, ast.If), place)
+
+    def test_what_is_raised_and_caught(self):
+        for place, node in nodes():
+            if isinstance(node, ast.Raise) and node.exc is not None:
+                self.assertIsInstance(node.exc, ast.Call, place)
+                self.assertRegex(ast.unparse(node.exc.func), r"^[A-Z][A-Za-z]+$", place)
+            if isinstance(node, ast.ExceptHandler):
+                self.assertIn(ast.unparse(node.type), OWN_ERRORS | {"KeyError", "ZeroDivisionError"}, place)
+
+    def test_stars_alone_stand_in_no_method_that_builtin_values_have(self):
+        for place, node in nodes():
+            if isinstance(node, ast.FunctionDef) and node.args.kwonlyargs:
+                self.assertNotIn(node.name, METHODS, place)
+
+    def test_defaults_are_plain(self):
+        for place, node in nodes():
+            if isinstance(node, ast.FunctionDef):
+                for default in [*node.args.defaults, *[part for part in node.args.kw_defaults if part is not None]]:
+                    self.assertIsInstance(default, (ast.Constant, ast.Name), place)
 
 
 class Expressions(unittest.TestCase):
